@@ -1,4 +1,4 @@
-package ask
+package ask_test
 
 import (
 	"bytes"
@@ -6,6 +6,7 @@ import (
 	"testing"
 
 	"jalousie/api"
+	. "jalousie/ask"
 	"jalousie/disk"
 	"jalousie/entry"
 	"jalousie/filter"

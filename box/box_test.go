@@ -1,10 +1,11 @@
-package box
+package box_test
 
 import (
 	"bytes"
 	"testing"
 
 	"jalousie/api"
+	. "jalousie/box"
 	"jalousie/hash"
 	"jalousie/seal"
 )

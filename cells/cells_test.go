@@ -1,10 +1,11 @@
-package cells
+package cells_test
 
 import (
 	"bytes"
 	"testing"
 
 	"jalousie/api"
+	. "jalousie/cells"
 	"jalousie/disk"
 )
 
@@ -127,7 +128,14 @@ func TestWhereItStands(t *testing.T) {
 // lay writes a head by hand.
 func lay(t *testing.T, d *disk.Disk, place int, serial, count uint64, note byte) {
 	t.Helper()
-	must(t, d.Write(place, head{serial: serial, count: count, note: [16]byte{note}}.sector()))
+	var half []byte
+	for _, x := range []uint64{serial, count} {
+		for i := range 8 {
+			half = append(half, byte(x>>(56-8*i)))
+		}
+	}
+	half = append(append(half, note), make([]byte, 15)...)
+	must(t, d.Write(place, append(half, half...)))
 }
 
 func TestHeadsThatAreNone(t *testing.T) {
@@ -202,10 +210,6 @@ func TestOver(t *testing.T) {
 	state(t, l, 1, run(10, 1), 1)
 	if l.Room() != 182 {
 		t.Error(l.Room())
-	}
-	var none Log
-	if none.Append(nil, [16]byte{}) != api.ErrLost || none.Clear() != api.ErrLost || none.Room() != 0 {
-		t.Error("a log of no disk is over")
 	}
 }
 

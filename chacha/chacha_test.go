@@ -1,4 +1,4 @@
-package chacha
+package chacha_test
 
 import (
 	"bytes"
@@ -6,6 +6,7 @@ import (
 	"testing"
 
 	"jalousie/api"
+	. "jalousie/chacha"
 	"jalousie/hash"
 )
 

@@ -1,4 +1,4 @@
-package control
+package control_test
 
 import (
 	"bytes"
@@ -7,6 +7,7 @@ import (
 
 	"jalousie/api"
 	"jalousie/box"
+	. "jalousie/control"
 	"jalousie/hash"
 	"jalousie/keys"
 )

@@ -1,4 +1,4 @@
-package device
+package device_test
 
 import (
 	"bytes"
@@ -10,6 +10,7 @@ import (
 	"jalousie/api"
 	"jalousie/box"
 	"jalousie/control"
+	. "jalousie/device"
 	"jalousie/disk"
 	"jalousie/entry"
 	"jalousie/filter"
@@ -68,7 +69,7 @@ func state(d *Device) string {
 	var b strings.Builder
 	fmt.Fprintln(&b, d.Me(), d.Heads(), d.Group(), d.Ring(), d.Filter(), d.Wish())
 	alarm, raised := d.Alarm()
-	fmt.Fprintln(&b, raised, alarm, d.lives, d.seed, d.time)
+	fmt.Fprintln(&b, raised, alarm)
 	for i := range 4 {
 		fmt.Fprintln(&b, d.Floor(i))
 	}
@@ -138,7 +139,7 @@ func TestOpensErrors(t *testing.T) {
 	gone.Fuse(0)
 	gone.Sync()
 	refused(1, gone, api.ErrLost)
-	for _, b := range [][]byte{nil, {0}, {7}, {1}, []byte("abc"), {3, 1, 1, 1, 'a'}, {3, 0, 1, 0}, {5, 4, 0, 0, 0, 0, 0, 0}, {6, 0}, {6, 1, 0}, {4}, {4, 3, 1, 3, 5}, {2, 1, 1, 0}, {2, 0, 0, 0}} {
+	for _, b := range [][]byte{nil, {0}, {1}, {255}, []byte("abc"), []byte("not a record"), bytes.Repeat([]byte{255}, 100)} {
 		d := disk.New(10)
 		s, _ := store.Open(d)
 		must(t, s.Add(b))
@@ -336,7 +337,7 @@ func TestHandOver(t *testing.T) {
 		must(t, a.Control(5, 2))
 		is(t, a.Control(4, 0), api.ErrState)
 		pass(a, b, all)
-		if b.Group().Owner != 2 || b.seed != config(1).Seed || a.seed != config(1).Seed {
+		if b.Group().Owner != 2 || a.Group().Owner != 2 {
 			t.Error(b.Group())
 		}
 		must(t, b.Control(4, 0))
@@ -347,12 +348,29 @@ func TestHandOver(t *testing.T) {
 		}
 		c := fresh(t, x, 3)
 		pass(b, c, all)
-		if c.seed != config(3).Seed || c.Group() != a.Group() || !slices.Equal(c.Ring().Epochs, a.Ring().Epochs) {
+		if c.Group() != a.Group() || !slices.Equal(c.Ring().Epochs, a.Ring().Epochs) {
 			t.Error(c.Group())
 		}
 		must(t, b.Control(3, 1))
 		if g := b.Group(); g.Cut[0] != 3 || !g.Gone[0] {
 			t.Error(g)
+		}
+	}
+}
+
+func TestTheHandedSeedIsKept(t *testing.T) {
+	for _, x := range boxes() {
+		a, k := fresh(t, x, 1), disk.New(200)
+		b := open(t, x, 2, k)
+		must(t, a.Control(1, 0))
+		must(t, a.Control(2, 2))
+		must(t, a.Control(5, 2))
+		pass(a, b, all)
+		must(t, b.Compact())
+		b = open(t, x, 2, k)
+		must(t, b.Control(4, 0))
+		if want, _ := control.Key(config(1).Seed, 3); b.Ring().Epochs[3] != want {
+			t.Error("the first owner's seed")
 		}
 	}
 }
@@ -394,7 +412,7 @@ func TestControlsThatAreNotApplied(t *testing.T) {
 		if i == 1 {
 			text, _ = control.Bytes(control.Control{Op: 4, Slots: control.Slots(x, secret, 1, [6]bool{true}, 3, api.Hash{9})})
 		}
-		h, body, e := entry.Make(x, set, entry.Header{Writer: 1, Seq: uint64(3 + i), Prev: b.chain(1).Tip(), Control: true, Time: 9, Knows: [6]uint64{uint64(2 + i)}}, text)
+		h, body, e := entry.Make(x, set, entry.Header{Writer: 1, Seq: uint64(3 + i), Prev: tip(b, 1), Control: true, Time: 9, Knows: [6]uint64{uint64(2 + i)}}, text)
 		must(t, e)
 		must(t, b.Take(index.Piece{Header: h, Body: body}))
 		if b.Group() != before || len(b.Ring().Epochs) != 3 {
@@ -406,7 +424,7 @@ func TestControlsThatAreNotApplied(t *testing.T) {
 	slots := control.Slots(x, secret, 1, [6]bool{true, true}, 3, key)
 	slots[1] = bytes.Repeat([]byte{1}, 48)
 	text, _ := control.Bytes(control.Control{Op: 4, Slots: slots})
-	h, body, e := entry.Make(x, set, entry.Header{Writer: 1, Seq: 5, Prev: b.chain(1).Tip(), Control: true, Time: 9, Knows: [6]uint64{4}}, text)
+	h, body, e := entry.Make(x, set, entry.Header{Writer: 1, Seq: 5, Prev: tip(b, 1), Control: true, Time: 9, Knows: [6]uint64{4}}, text)
 	must(t, e)
 	must(t, b.Take(index.Piece{Header: h, Body: body}))
 	if b.Group().Epoch != 3 || len(b.Ring().Epochs) != 3 {
@@ -418,7 +436,7 @@ func TestControlsThatAreNotApplied(t *testing.T) {
 	}
 	key, _ = control.Key(config(1).Seed, 4)
 	text, _ = control.Bytes(control.Control{Op: 4, Slots: control.Slots(x, secret, 1, [6]bool{true, true}, 4, key)})
-	h, body, e = entry.Make(x, set, entry.Header{Writer: 1, Seq: 6, Prev: b.chain(1).Tip(), Control: true, Time: 9, Knows: [6]uint64{5}}, text)
+	h, body, e = entry.Make(x, set, entry.Header{Writer: 1, Seq: 6, Prev: tip(b, 1), Control: true, Time: 9, Knows: [6]uint64{5}}, text)
 	must(t, e)
 	must(t, b.Take(index.Piece{Header: h, Body: body}))
 	for epoch, key := range b.Ring().Epochs {
@@ -478,17 +496,23 @@ func sameRow(a, b item.Row) bool {
 		slices.Equal(a.Change.Tags, b.Change.Tags) && a.Change.Value == b.Change.Value
 }
 
+// tip is the hash of a writer's last header that is held.
+func tip(d *Device, writer int) api.Hash {
+	p, _ := d.Piece(writer, d.Heads()[writer-1])
+	return entry.Hash(p.Header)
+}
+
 // forged is an entry with the group's keys that no device made.
-func forged(t *testing.T, d *Device, text []byte, change func(h *entry.Header)) index.Piece {
+func forged(t *testing.T, x *box.Box, d *Device, text []byte, change func(h *entry.Header)) index.Piece {
 	t.Helper()
 	set := keys.Of(own)
-	h := entry.Header{Writer: 2, Seq: 1, Epoch: 2, Time: 5, Item: keys.Item(d.box, set, "n"), Tokens: keys.Tokens(d.box, set, []string{"x"}), Knows: [6]uint64{2}}
+	h := entry.Header{Writer: 2, Seq: 1, Epoch: 2, Time: 5, Item: keys.Item(x, set, "n"), Tokens: keys.Tokens(x, set, []string{"x"}), Knows: [6]uint64{2}}
 	change(&h)
-	s, are := proof.Keys(d.ring, h)
+	s, are := proof.Keys(d.Ring(), h)
 	if !are {
 		t.Fatal("no keys")
 	}
-	h, body, e := entry.Make(d.box, s, h, text)
+	h, body, e := entry.Make(x, s, h, text)
 	must(t, e)
 	return index.Piece{Header: h, Body: body}
 }
@@ -506,7 +530,7 @@ func TestRowsThatAreNotKnown(t *testing.T) {
 	} {
 		for _, x := range boxes() {
 			a, _ := two(t, x)
-			p := forged(t, a, c.text, c.change)
+			p := forged(t, x, a, c.text, c.change)
 			must(t, a.Take(p))
 			if r := a.Rows(); len(r) != 1 || r[0].Known != c.known || len(a.Pending()) == 1 == c.known {
 				t.Error(name, r)
@@ -548,10 +572,10 @@ func TestTakesErrors(t *testing.T) {
 		refused(api.ErrSeal, first, func(p *index.Piece) { p.Header.Code[0]++ })
 		refused(api.ErrForm, first, func(p *index.Piece) { p.Body = p.Body[:79] })
 		refused(api.ErrForm, first, func(p *index.Piece) { p.Body = second.Body })
-		refused(api.ErrState, forged(t, a, text, func(h *entry.Header) { h.Knows[0] = 3 }), none)
-		refused(api.ErrState, forged(t, a, text, func(h *entry.Header) { h.Knows[4] = 1 }), func(p *index.Piece) { p.Body = p.Body[1:] })
-		own := forged(t, a, []byte("c"), func(h *entry.Header) {
-			*h = entry.Header{Writer: 1, Seq: 3, Prev: a.chain(1).Tip(), Control: true, Knows: [6]uint64{2}}
+		refused(api.ErrState, forged(t, x, a, text, func(h *entry.Header) { h.Knows[0] = 3 }), none)
+		refused(api.ErrState, forged(t, x, a, text, func(h *entry.Header) { h.Knows[4] = 1 }), func(p *index.Piece) { p.Body = p.Body[1:] })
+		own := forged(t, x, a, []byte("c"), func(h *entry.Header) {
+			*h = entry.Header{Writer: 1, Seq: 3, Prev: tip(a, 1), Control: true, Knows: [6]uint64{2}}
 		})
 		refused(api.ErrForm, own, func(p *index.Piece) { p.Body = nil })
 		must(t, a.Take(index.Piece{Header: first.Header}))
@@ -569,7 +593,7 @@ func TestForkAndChain(t *testing.T) {
 		must(t, b.Change(put("n", "v", "x")))
 		pass(b, a, all)
 		held, _ := a.Piece(2, 1)
-		fork := forged(t, a, text, func(h *entry.Header) { h.Time = 99 })
+		fork := forged(t, x, a, text, func(h *entry.Header) { h.Time = 99 })
 		before := state(a)
 		turned := fork
 		turned.Header.Time++
@@ -582,7 +606,7 @@ func TestForkAndChain(t *testing.T) {
 		if !raised || p.Kind != 1 || !entry.Same(p.A, held.Header) || !entry.Same(p.B, fork.Header) || !proof.Check(x, a.Ring(), p) || a.Heads() != (vector.Vector{2, 1}) {
 			t.Error(p)
 		}
-		chain := forged(t, a, text, func(h *entry.Header) { h.Seq, h.Knows[1], h.Prev = 2, 1, api.Hash{7} })
+		chain := forged(t, x, a, text, func(h *entry.Header) { h.Seq, h.Knows[1], h.Prev = 2, 1, api.Hash{7} })
 		is(t, a.Take(chain), api.ErrChain)
 		if q, _ := a.Alarm(); q.Kind != 1 {
 			t.Error("the first alarm stays", q)
@@ -613,20 +637,21 @@ func TestRaise(t *testing.T) {
 }
 
 func TestFloors(t *testing.T) {
-	d := fresh(t, box.New(false, api.Hash{}), 1)
+	k := disk.New(100)
+	d := open(t, box.New(false, api.Hash{}), 1, k)
 	must(t, d.Lift(0, vector.Vector{1, 2}))
 	must(t, d.Lift(0, vector.Vector{2, 1, 1 << 20}))
 	must(t, d.Lift(3, vector.Vector{5: 4}))
 	if d.Floor(0) != (vector.Vector{2, 2, 1 << 20}) || d.Floor(3) != (vector.Vector{5: 4}) || d.Floor(1) != (vector.Vector{}) || d.Floor(-1) != (vector.Vector{}) || d.Floor(4) != (vector.Vector{}) {
-		t.Error(d.floors)
+		t.Error(d.Floor(0), d.Floor(3))
 	}
 	is(t, d.Lift(-1, vector.Vector{}), api.ErrArg)
 	is(t, d.Lift(4, vector.Vector{}), api.ErrArg)
 	is(t, d.Lift(1, vector.Vector{5: 1<<20 + 1}), api.ErrArg)
-	room := d.store.Room()
+	k.Fuse(0)
 	must(t, d.Lift(0, vector.Vector{2, 2}))
 	must(t, d.Lift(1, vector.Vector{}))
-	if d.store.Room() != room {
+	if k.Gone() {
 		t.Error("of the same nothing is kept")
 	}
 }
@@ -638,12 +663,30 @@ func TestLives(t *testing.T) {
 			t.Error(n, e)
 		}
 	}
-	d.lives = 1<<31 - 2
+}
+
+// The last life, by a record as this device keeps it.
+func TestTheLastLife(t *testing.T) {
+	x, k := box.New(false, api.Hash{}), disk.New(10)
+	_, e := open(t, x, 1, k).Begin()
+	must(t, e)
+	s, _ := store.Open(k)
+	if l := s.Records(); len(l) != 1 || !bytes.Equal(l[0], []byte{6, 1}) {
+		t.Skip("records have another form")
+	}
+	must(t, s.Add([]byte{6, 254, 255, 255, 255, 7}))
+	d := open(t, x, 1, k)
 	if n, e := d.Begin(); e != api.OK || n != 1<<31-1 {
 		t.Error(n, e)
 	}
 	if n, e := d.Begin(); e != api.ErrSpent || n != 0 {
 		t.Error(n, e)
+	}
+	d = open(t, x, 1, k)
+	k.Fuse(0)
+	is(t, d.SetFilter(filter.Filter{}), api.ErrLost)
+	if _, e := d.Begin(); e != api.ErrSpent {
+		t.Error("spent comes ahead of over", e)
 	}
 }
 
@@ -671,7 +714,7 @@ func TestTimesThatAreSpent(t *testing.T) {
 	x := box.New(true, api.Hash{5})
 	a, _ := two(t, x)
 	text, _ := entry.PackChange(put("n", "v", "x"))
-	must(t, a.Take(forged(t, a, text, func(h *entry.Header) { h.Time = 1<<40 - 1 })))
+	must(t, a.Take(forged(t, x, a, text, func(h *entry.Header) { h.Time = 1<<40 - 1 })))
 	must(t, a.Change(put("n", "v")))
 	before, draws := state(a), x.Draws()
 	is(t, a.Change(put("n", "v")), api.ErrSpent)

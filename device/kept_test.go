@@ -1,4 +1,4 @@
-package device
+package device_test
 
 import (
 	"fmt"
@@ -7,11 +7,13 @@ import (
 
 	"jalousie/api"
 	"jalousie/box"
+	. "jalousie/device"
 	"jalousie/disk"
 	"jalousie/entry"
 	"jalousie/filter"
 	"jalousie/index"
 	"jalousie/proof"
+	"jalousie/store"
 	"jalousie/vector"
 )
 
@@ -51,10 +53,10 @@ func TestOpenedAgain(t *testing.T) {
 		if got := state(open(t, x, 1, d)); got != want {
 			t.Errorf("%s\nwant %s", got, want)
 		}
-		room := a.store.Room()
+		before := room(t, d)
 		must(t, a.Compact())
-		if state(a) != want || a.store.Room() <= room {
-			t.Error("compact", room, a.store.Room())
+		if state(a) != want || room(t, d) <= before {
+			t.Error("compact", before, room(t, d))
 		}
 		again := open(t, x, 1, d)
 		if state(again) != want || x.Draws() != draws {
@@ -65,6 +67,9 @@ func TestOpenedAgain(t *testing.T) {
 		if got := state(open(t, x, 1, d)); got != state(again) {
 			t.Error("alarm")
 		}
+		if n, e := open(t, x, 1, d).Begin(); e != api.OK || n != 2 {
+			t.Error("lives", n, e)
+		}
 		must(t, again.Change(put("more", "v")))
 		must(t, again.Control(5, 2))
 		if got := state(open(t, x, 1, d)); got != state(again) {
@@ -73,8 +78,16 @@ func TestOpenedAgain(t *testing.T) {
 	}
 }
 
+// room is how much the store on a disk has.
+func room(t *testing.T, d *disk.Disk) int {
+	t.Helper()
+	s, e := store.Open(d)
+	must(t, e)
+	return s.Room()
+}
+
 // calls are one of each that holds something.
-func calls(t *testing.T, l []index.Piece) map[string]func(d *Device) api.Errno {
+func calls(t *testing.T, x *box.Box, l []index.Piece) map[string]func(d *Device) api.Errno {
 	return map[string]func(d *Device) api.Errno{
 		"control":  func(d *Device) api.Errno { return d.Control(4, 0) },
 		"remove":   func(d *Device) api.Errno { return d.Control(3, 2) },
@@ -88,8 +101,8 @@ func calls(t *testing.T, l []index.Piece) map[string]func(d *Device) api.Errno {
 		"lift":     func(d *Device) api.Errno { return d.Lift(1, vector.Vector{1}) },
 		"compact":  func(d *Device) api.Errno { return d.Compact() },
 		"begin":    func(d *Device) api.Errno { _, e := d.Begin(); return e },
-		"accuse":   func(d *Device) api.Errno { return okIf(api.ErrFork, d.Take(forked(t, d, l[0]))) },
-		"accuse 2": func(d *Device) api.Errno { return okIf(api.ErrChain, d.Take(unlinked(t, d))) },
+		"accuse":   func(d *Device) api.Errno { return okIf(api.ErrFork, d.Take(forked(t, x, d, l[0]))) },
+		"accuse 2": func(d *Device) api.Errno { return okIf(api.ErrChain, d.Take(unlinked(t, x, d))) },
 	}
 }
 
@@ -101,12 +114,12 @@ func okIf(want, e api.Errno) api.Errno {
 	return e
 }
 
-func forked(t *testing.T, d *Device, p index.Piece) index.Piece {
-	return forged(t, d, []byte("other"), func(h *entry.Header) { h.Time = p.Header.Time + 7 })
+func forked(t *testing.T, x *box.Box, d *Device, p index.Piece) index.Piece {
+	return forged(t, x, d, []byte("other"), func(h *entry.Header) { h.Time = p.Header.Time + 7 })
 }
 
-func unlinked(t *testing.T, d *Device) index.Piece {
-	return forged(t, d, []byte("other"), func(h *entry.Header) { h.Seq, h.Knows[1], h.Prev = 4, 3, api.Hash{1} })
+func unlinked(t *testing.T, x *box.Box, d *Device) index.Piece {
+	return forged(t, x, d, []byte("other"), func(h *entry.Header) { h.Seq, h.Knows[1], h.Prev = 4, 3, api.Hash{1} })
 }
 
 // Behind any crash a device holds what it held ahead of the call that was cut off, or behind it.
@@ -114,7 +127,7 @@ func TestCrashes(t *testing.T) {
 	x := box.New(false, api.Hash{})
 	first := disk.New(400)
 	_, l := busy(t, x, first)
-	for name, call := range calls(t, l) {
+	for name, call := range calls(t, x, l) {
 		twin := open(t, x, 1, doubled(t, first))
 		is(t, call(twin), api.OK)
 		after := state(twin)
@@ -130,8 +143,14 @@ func TestCrashes(t *testing.T) {
 					t.Fatal(name, fuse, e)
 				}
 				d.Crash([]byte{byte(fate), byte(fate * 3), byte(fate * 7)})
-				if got := state(open(t, x, 1, d)); got != after && (done || got != before) {
+				again := open(t, x, 1, d)
+				if got := state(again); got != after && (done || got != before) {
 					t.Fatalf("%s %d %d: %s\nwant %s", name, fuse, fate, got, after)
+				}
+				n, e := again.Begin()
+				must(t, e)
+				if n != 2 && name != "begin" || n < 2 || n > 3 || done && name == "begin" && n != 3 {
+					t.Fatal(name, "lives", n)
 				}
 			}
 			if fuse > 100 {
@@ -158,18 +177,17 @@ func TestOver(t *testing.T) {
 	for _, alarmed := range []bool{false, true} {
 		d := disk.New(400)
 		a, l := busy(t, x, d)
-		all := calls(t, l)
+		all := calls(t, x, l)
 		if alarmed {
 			must(t, a.Raise(proof.Proof{Kind: 3, Writer: 1, Floor: 2}))
 		}
-		// What others made is made ahead of the draws that are counted.
-		fork, chain := forked(t, a, l[0]), unlinked(t, a)
+		fork, chain := forked(t, x, a, l[0]), unlinked(t, x, a)
 		all["accuse"] = func(d *Device) api.Errno { return d.Take(fork) }
 		all["accuse 2"] = func(d *Device) api.Errno { return d.Take(chain) }
 		d.Fuse(0)
 		is(t, a.Lift(0, vector.Vector{1}), api.ErrLost)
 		d.Crash(nil)
-		before, draws := state(a), x.Draws()
+		before := state(a)
 		if !a.Over() {
 			t.Error("over")
 		}
@@ -197,11 +215,7 @@ func TestOver(t *testing.T) {
 		is(t, a.SetFilter(filter.Filter{All: true, Tags: []string{"a"}}), api.ErrArg)
 		is(t, a.Take(l[0]), api.ErrOld)
 		is(t, a.Take(index.Piece{}), api.ErrArg)
-		a.lives = maxLives
-		_, e := a.Begin()
-		is(t, e, api.ErrSpent)
-		a.lives = 1
-		if state(a) != before || x.Draws() != draws {
+		if state(a) != before {
 			t.Error("changed")
 		}
 	}
@@ -218,21 +232,21 @@ func TestFull(t *testing.T) {
 		}
 		n := 0
 		for ; ; n++ {
-			before, draws := state(a), x.Draws()
+			before := state(a)
 			e := a.Change(put("n", strings.Repeat("v", n%200), "x"))
 			if e == api.OK {
 				continue
 			}
 			is(t, e, api.ErrFull)
-			if state(a) != before || x.Draws() != draws || a.Over() {
+			if state(a) != before || a.Over() {
 				t.Error("changed")
 			}
 			for a.Control(4, 0) == api.OK {
 			}
-			before, draws = state(a), x.Draws()
+			before = state(a)
 			is(t, a.Control(4, 0), api.ErrFull)
 			is(t, a.Control(2, 2), api.ErrFull)
-			if state(a) != before || x.Draws() != draws || state(open(t, x, 1, d)) != before {
+			if state(a) != before || state(open(t, x, 1, d)) != before {
 				t.Error("changed")
 			}
 			break
@@ -266,16 +280,4 @@ func TestAllRoomIsUsed(t *testing.T) {
 	if state(open(t, x, 1, d)) != state(a) {
 		t.Error("kept")
 	}
-}
-
-func TestAZeroDevice(t *testing.T) {
-	var d Device
-	h := entry.Header{Writer: 1, Seq: 1, Control: true, Size: 80}
-	is(t, d.Control(1, 0), api.ErrArg)
-	is(t, d.Change(put("n", "v")), api.ErrState)
-	is(t, d.Take(index.Piece{Header: h}), api.ErrSeal)
-	is(t, d.SetFilter(filter.Filter{All: true}), api.ErrLost)
-	is(t, d.Compact(), api.ErrLost)
-	is(t, d.Raise(proof.Proof{Kind: 3, Writer: 1, Floor: 2}), api.ErrArg)
-	state(&d)
 }

@@ -1,10 +1,11 @@
-package disk
+package disk_test
 
 import (
 	"bytes"
 	"testing"
 
 	"jalousie/api"
+	. "jalousie/disk"
 )
 
 func full(c byte) []byte {

@@ -1,4 +1,4 @@
-package entry
+package entry_test
 
 import (
 	"bytes"
@@ -8,6 +8,7 @@ import (
 
 	"jalousie/api"
 	"jalousie/box"
+	. "jalousie/entry"
 	"jalousie/hash"
 	"jalousie/keys"
 	"jalousie/pad"

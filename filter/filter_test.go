@@ -1,4 +1,4 @@
-package filter
+package filter_test
 
 import (
 	"slices"
@@ -8,6 +8,7 @@ import (
 	"jalousie/api"
 	"jalousie/box"
 	"jalousie/entry"
+	. "jalousie/filter"
 	"jalousie/item"
 	"jalousie/keys"
 )

@@ -1,4 +1,4 @@
-package group
+package group_test
 
 import (
 	"bytes"
@@ -7,6 +7,7 @@ import (
 	"jalousie/api"
 	"jalousie/control"
 	"jalousie/entry"
+	. "jalousie/group"
 )
 
 // some is a group of the owner 2 with the members 1 to 3; 4 is gone.

@@ -1,4 +1,4 @@
-package hash
+package hash_test
 
 import (
 	"bytes"
@@ -8,6 +8,7 @@ import (
 	"testing"
 
 	"jalousie/api"
+	. "jalousie/hash"
 )
 
 func is(t *testing.T, what string, got []byte, want string) {

@@ -1,4 +1,4 @@
-package item
+package item_test
 
 import (
 	"math/rand"
@@ -7,6 +7,7 @@ import (
 
 	"jalousie/api"
 	"jalousie/entry"
+	. "jalousie/item"
 )
 
 func header(writer int, seq, time uint64, item byte) entry.Header {

@@ -1,4 +1,4 @@
-package keys
+package keys_test
 
 import (
 	"bytes"
@@ -8,6 +8,7 @@ import (
 	"jalousie/api"
 	"jalousie/box"
 	"jalousie/hash"
+	. "jalousie/keys"
 	"jalousie/seal"
 )
 

@@ -1,4 +1,4 @@
-package net
+package net_test
 
 import (
 	"bytes"
@@ -6,6 +6,7 @@ import (
 	"testing"
 
 	"jalousie/api"
+	. "jalousie/net"
 )
 
 func letter(i int) Letter {

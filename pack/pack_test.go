@@ -1,4 +1,4 @@
-package pack
+package pack_test
 
 import (
 	"bytes"
@@ -6,6 +6,7 @@ import (
 	"testing"
 
 	"jalousie/api"
+	. "jalousie/pack"
 )
 
 func end(t *testing.T, o *Out) []byte {
@@ -223,11 +224,8 @@ func TestMemoryIsNotShared(t *testing.T) {
 	part := []byte{1, 2, 3}
 	o.Raw(part[:2])
 	part[0] = 9
-	p := o
 	o.Num(4)
-	p.Num(5)
-	o.Num(6)
-	if a, b := end(t, &o), end(t, &p); !bytes.Equal(a, []byte{1, 2, 4, 6}) || !bytes.Equal(b, []byte{1, 2, 5}) || part[2] != 3 {
-		t.Error(a, b)
+	if a := end(t, &o); !bytes.Equal(a, []byte{1, 2, 4}) || part[2] != 3 {
+		t.Error(a)
 	}
 }

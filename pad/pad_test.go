@@ -1,10 +1,11 @@
-package pad
+package pad_test
 
 import (
 	"bytes"
 	"testing"
 
 	"jalousie/api"
+	. "jalousie/pad"
 )
 
 func TestBucket(t *testing.T) {

@@ -1,4 +1,4 @@
-package poly
+package poly_test
 
 import (
 	"bytes"
@@ -9,6 +9,7 @@ import (
 	"testing"
 
 	"jalousie/api"
+	. "jalousie/poly"
 )
 
 // plain is the code as the document words it, by numbers of any size.

@@ -1,4 +1,4 @@
-package proof
+package proof_test
 
 import (
 	"bytes"
@@ -9,6 +9,7 @@ import (
 	"jalousie/box"
 	"jalousie/entry"
 	"jalousie/keys"
+	. "jalousie/proof"
 )
 
 var ring = Ring{Group: api.Hash{1}, Epochs: []api.Hash{{2}, {3}}}

@@ -1,8 +1,7 @@
-package relay
+package relay_test
 
 import (
 	"bytes"
-	"errors"
 	"testing"
 
 	"jalousie/api"
@@ -12,6 +11,7 @@ import (
 	"jalousie/hash"
 	"jalousie/index"
 	"jalousie/pack"
+	. "jalousie/relay"
 	"jalousie/store"
 	"jalousie/vector"
 )
@@ -28,6 +28,15 @@ func pieces(writer, n int) []index.Piece {
 		l = append(l, index.Piece{Header: h, Body: body})
 	}
 	return l
+}
+
+// packed is a piece's record.
+func packed(p index.Piece) []byte {
+	var o pack.Out
+	o.Text(entry.Bytes(p.Header))
+	o.Text(p.Body)
+	b, _ := o.End()
+	return b
 }
 
 func open(t *testing.T, d *disk.Disk) *Relay {
@@ -61,12 +70,7 @@ func TestOpensErrors(t *testing.T) {
 		t.Error(e)
 	}
 	good := pieces(1, 2)
-	first, _ := packed(good[0])
-	second, _ := packed(good[1])
-	var stub pack.Out
-	stub.Text(entry.Bytes(good[0].Header))
-	stub.Text(nil)
-	empty, _ := stub.End()
+	first, second, empty := packed(good[0]), packed(good[1]), packed(index.Piece{Header: good[0].Header})
 	for name, l := range map[string][][]byte{
 		"no bytes": {nil}, "bytes": {[]byte("abc")}, "cut": {first[:len(first)-1]}, "more": {append(bytes.Clone(first), 0)}, "a stub": {empty},
 		"twice": {first, first}, "a gap": {second}, "two texts": {[]byte("\x01a\x01b")},
@@ -188,18 +192,5 @@ func TestCrashes(t *testing.T) {
 				}
 			}
 		}
-	}
-}
-
-func TestFaultsAreWrapped(t *testing.T) {
-	r := open(t, disk.New(20))
-	err := r.push(index.Piece{})
-	var of indexFault
-	if !errors.As(err, &of) || of.number != api.ErrArg || errors.Unwrap(err) == nil || err.Error() == "" {
-		t.Error(err)
-	}
-	var zero Relay
-	if zero.Push(pieces(1, 1)[0]) != api.ErrLost || !zero.Over() || zero.Count() != 0 {
-		t.Error("a relay of no disk is over")
 	}
 }

@@ -1,4 +1,4 @@
-package seal
+package seal_test
 
 import (
 	"bytes"
@@ -7,6 +7,7 @@ import (
 
 	"jalousie/api"
 	"jalousie/hash"
+	. "jalousie/seal"
 )
 
 func run(n, step, from int) []byte {

@@ -1,4 +1,4 @@
-package sync
+package sync_test
 
 import (
 	"fmt"
@@ -15,6 +15,7 @@ import (
 	"jalousie/filter"
 	"jalousie/item"
 	"jalousie/relay"
+	. "jalousie/sync"
 )
 
 // letter is under way between a device and a relay.

@@ -1,4 +1,4 @@
-package sync
+package sync_test
 
 import (
 	"fmt"
@@ -19,6 +19,7 @@ import (
 	"jalousie/keys"
 	"jalousie/proof"
 	"jalousie/relay"
+	. "jalousie/sync"
 	"jalousie/vector"
 )
 
@@ -491,17 +492,18 @@ func TestFullAndOver(t *testing.T) {
 		t.Error("what had room is taken", c.d.Heads(), c.d.Floor(0))
 	}
 	// An alarm that can't be kept isn't raised, and that is told.
+	c = begin(t, x, 2, 22)
+	must(t, c.d.Lift(0, vector.Vector{5}))
 	for e := api.OK; e == api.OK; {
 		_, e = c.d.Begin()
 	}
 	q := c.asks(t, 0)
-	c.s.sides[0].floor = vector.Vector{5}
 	is(t, c.s.Take(0, says(t, ask.Reply{ID: q.ID, Kind: 2, Heads: vector.Vector{4}})), api.ErrFull)
 	if _, raised := c.d.Alarm(); raised {
 		t.Error("raised")
 	}
-	q = c.asks(t, 0)
-	is(t, c.s.Take(0, says(t, ask.Reply{ID: q.ID, Kind: 2, Heads: vector.Vector{4}})), api.ErrFull)
+	q = c.asks(t, 1)
+	is(t, c.s.Take(1, says(t, ask.Reply{ID: q.ID, Kind: 2, Heads: vector.Vector{4}})), api.ErrFull)
 	d := begin(t, x, 2, 400)
 	q = d.asks(t, 0)
 	d.k.Fuse(0)
@@ -511,11 +513,6 @@ func TestFullAndOver(t *testing.T) {
 	if _, open := d.s.Open(0); open || len(b) > 0 {
 		t.Error("open")
 	}
-	var zero Sync
-	if _, e := zero.Ask(0); e != api.ErrLost {
-		t.Error(e)
-	}
-	is(t, zero.Take(0, says(t, ask.Reply{Kind: 2})), api.ErrOld)
 }
 
 func TestMemoryIsNotShared(t *testing.T) {

@@ -1,4 +1,4 @@
-package vector
+package vector_test
 
 import (
 	"math/rand"
@@ -7,6 +7,7 @@ import (
 
 	"jalousie/api"
 	"jalousie/entry"
+	. "jalousie/vector"
 )
 
 func header(writer int, seq, time uint64, knows ...uint64) entry.Header {

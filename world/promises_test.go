@@ -1,4 +1,4 @@
-package world
+package world_test
 
 import (
 	"bytes"
@@ -20,6 +20,7 @@ import (
 	"jalousie/keys"
 	"jalousie/proof"
 	"jalousie/vector"
+	. "jalousie/world"
 )
 
 // words is what items say in a script: names and tags in order, and how long a value is.
@@ -234,9 +235,12 @@ func sound(x *World, d *device.Device) string {
 // lie turns a letter of a relay: what it tells is something that was told, or could be, but isn't what it should tell.
 func lie(r *rand.Rand, w *World) Act {
 	a := Act{Kind: 10, I: r.Intn(20)}
-	l, is := w.net.At(a.I)
-	told, e := ask.ParseReply(l.Bytes)
-	if !is || e != api.OK {
+	l := w.Way()
+	if len(l) == 0 {
+		return a
+	}
+	told, e := ask.ParseReply(l[a.I%len(l)].Bytes)
+	if e != api.OK {
 		return a
 	}
 	switch r.Intn(7) {
@@ -318,7 +322,7 @@ func TestSafe(t *testing.T) {
 // own puts what devices hold of their own to what was made: there are no two headers of one number.
 func own(t *testing.T, w *World, made map[[2]int]entry.Header) {
 	t.Helper()
-	for i := range w.seats {
+	for i := range 4 {
 		d := w.Device(i)
 		if d == nil {
 			continue

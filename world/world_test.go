@@ -1,4 +1,4 @@
-package world
+package world_test
 
 import (
 	"bytes"
@@ -14,6 +14,7 @@ import (
 	"jalousie/hash"
 	"jalousie/keys"
 	"jalousie/vector"
+	. "jalousie/world"
 )
 
 var secret = api.Hash{7, 7}
@@ -175,12 +176,7 @@ func TestLetters(t *testing.T) {
 	if len(w.Trace()) != traced || len(w.Way()) != 200 {
 		t.Error("changed")
 	}
-	does(t, w, api.OK, Act{Kind: 5, I: 199}, Act{Kind: 3})
-	q, _ := ask.Parse(w.Way()[199].Bytes)
-	if q.ID != 1<<32+202 {
-		t.Error("what is refused has no number", q.ID)
-	}
-	does(t, w, api.OK, Act{Kind: 4, I: 100})
+	does(t, w, api.OK, Act{Kind: 5, I: 199}, Act{Kind: 3}, Act{Kind: 4, I: 100})
 }
 
 func TestTurns(t *testing.T) {
@@ -275,21 +271,6 @@ func TestDown(t *testing.T) {
 		t.Error("the letter is gone")
 	}
 	does(t, w, api.ErrArg, Act{Kind: 13})
-	var zero World
-	if zero.Do(Act{Kind: 3}) != api.ErrArg || zero.Device(0) != nil || zero.Relay(0) != nil || len(zero.Way()) != 0 || len(zero.Trace()) != 0 {
-		t.Error("zero")
-	}
-}
-
-func TestARelayThatIsDown(t *testing.T) {
-	w := begun(t, plan())
-	does(t, w, api.OK, Act{Kind: 3})
-	w.posts[0].relay = nil
-	does(t, w, api.ErrLost, Act{Kind: 4})
-	if len(w.Way()) != 0 || w.Relay(0) != nil {
-		t.Error("the letter is gone")
-	}
-	does(t, w, api.OK, Act{Kind: 3}, Act{Kind: 8}, Act{Kind: 4}, Act{Kind: 4})
 }
 
 func TestLeaks(t *testing.T) {

@@ -1,10 +1,11 @@
-package writer
+package writer_test
 
 import (
 	"testing"
 
 	"jalousie/api"
 	"jalousie/entry"
+	. "jalousie/writer"
 )
 
 // chain are n headers of a writer, one behind the other.
