@@ -181,11 +181,14 @@ func TestReplies(t *testing.T) {
 		t.Error(b)
 	}
 	b, _ = ReplyBytes(Reply{ID: 1 << 35, Kind: 2, Heads: vector.Vector{1, 2, 3, 4, 5, 6}})
-	if len(b) != 16 || b[15] != 1 {
+	if back, e := ParseReply(b); e != api.OK || back.ID != 1<<35 || len(b) != 16 || b[15] != 1 {
 		t.Error("at least the 1 has room", b)
 	}
+	if _, e := ParseReply(append(bytes.Clone(b), make([]byte, 16)...)); e != api.ErrForm {
+		t.Error("more noughts than are needed", e)
+	}
 	b, _ = ReplyBytes(Reply{ID: 1 << 42, Kind: 2, Heads: vector.Vector{1, 2, 3, 4, 5, 6}})
-	if len(b) != 32 || b[16] != 1 {
+	if back, e := ParseReply(b); e != api.OK || back.ID != 1<<42 || len(b) != 32 || b[16] != 1 {
 		t.Error("at least the 1 has room", b)
 	}
 }

@@ -133,6 +133,7 @@ func TestOpensErrors(t *testing.T) {
 	}
 	for _, me := range []int{0, 7, -1} {
 		refused(me, disk.New(3), api.ErrArg)
+		refused(me, disk.New(100), api.ErrArg)
 	}
 	refused(1, disk.New(5), api.ErrArg)
 	gone := disk.New(10)
@@ -449,6 +450,32 @@ func TestControlsThatAreNotApplied(t *testing.T) {
 	}
 }
 
+// A member that has no key at all can't write.
+func TestAMemberWithoutKeys(t *testing.T) {
+	x := box.New(false, api.Hash{})
+	set := keys.Of(own)
+	key, _ := control.Key(api.Hash{1}, 1)
+	create, _ := control.Bytes(control.Control{Op: 1, Slots: control.Slots(x, secret, 1, [6]bool{true}, 1, key)})
+	slots := control.Slots(x, secret, 1, [6]bool{true, true}, 2, key)
+	slots[1] = slots[0]
+	add, _ := control.Bytes(control.Control{Op: 2, Member: 2, Slots: slots})
+	d := fresh(t, x, 2)
+	var prev api.Hash
+	for i, text := range [][]byte{create, add} {
+		h, body, e := entry.Make(x, set, entry.Header{Writer: 1, Seq: uint64(i + 1), Prev: prev, Control: true, Time: 1, Knows: [6]uint64{uint64(i)}}, text)
+		must(t, e)
+		must(t, d.Take(index.Piece{Header: h, Body: body}))
+		prev = entry.Hash(h)
+	}
+	if !group.Is(d.Group(), 2) || len(d.Ring().Epochs) != 0 {
+		t.Error(d.Group())
+	}
+	before := state(d)
+	if e := d.Change(put("n", "v")); e == api.OK || state(d) != before {
+		t.Error(e)
+	}
+}
+
 func TestStubsAndBodies(t *testing.T) {
 	for _, x := range boxes() {
 		a, b := two(t, x)
@@ -665,6 +692,37 @@ func TestLives(t *testing.T) {
 	}
 }
 
+// Records as this device keeps them, where they can't come.
+func TestRecordsThatDoNotFit(t *testing.T) {
+	x, k := box.New(false, api.Hash{}), disk.New(400)
+	a := open(t, x, 1, k)
+	_, e := a.Begin()
+	must(t, e)
+	must(t, a.Control(1, 0))
+	must(t, a.Change(put("n", "v")))
+	must(t, a.Raise(proof.Proof{Kind: 3, Writer: 1, Floor: 3, Head: 2}))
+	s, _ := store.Open(k)
+	l := s.Records()
+	if len(l) != 4 || !bytes.Equal(l[0], []byte{6, 1}) {
+		t.Skip("records have another form")
+	}
+	life, first, second, alarm := l[0], l[1], l[2], l[3]
+	p, _ := a.Piece(1, 2)
+	other := slices.Concat([]byte{2, 1, 2, 80}, p.Body)
+	for name, l := range map[string][][]byte{
+		"a gap": {second}, "twice": {first, first}, "a life twice": {life, life}, "two alarms": {alarm, alarm}, "a body that is there": {first, second, other},
+		"a body of none": {other}, "a control's body": {first, slices.Concat([]byte{2, 1, 1, 80}, p.Body)}, "a filter": {{3, 1, 1, 1, 'a'}}, "a relay": {{5, 4, 0, 0, 0, 0, 0, 0}},
+		"more": {append(slices.Clone(life), 0)}, "cut": {first[:len(first)-1]}, "another body": {append(slices.Clone(first[:len(first)-1]), 1)}, "no life": {{6, 0}},
+	} {
+		k := disk.New(400)
+		s, _ := store.Open(k)
+		must(t, s.Add(l...))
+		if d, e := Open(x, config(1), k); e != api.ErrForm || d != nil {
+			t.Error(name, e)
+		}
+	}
+}
+
 // The last life, by a record as this device keeps it.
 func TestTheLastLife(t *testing.T) {
 	x, k := box.New(false, api.Hash{}), disk.New(10)
@@ -763,6 +821,39 @@ func TestMemoryIsNotShared(t *testing.T) {
 		}
 	}
 	if state(b) != want || a.Items()[0].Tags[0] != "x" {
+		t.Error("shared")
+	}
+}
+
+func TestTheAlarmsMemoryIsNotShared(t *testing.T) {
+	x := box.New(false, api.Hash{})
+	a, b := two(t, x)
+	must(t, a.Change(put("n", "v", "x", "y")))
+	made, _ := a.Piece(1, 3)
+	p := proof.Proof{Kind: 4, A: made.Header, Wanted: slices.Clone(made.Header.Tokens)}
+	must(t, b.Raise(p))
+	before := state(b)
+	p.A.Tokens[0][0]++
+	p.Wanted[0][0]++
+	q, _ := b.Alarm()
+	q.A.Tokens[0][0]++
+	q.Wanted[0][0]++
+	if state(b) != before {
+		t.Error("shared")
+	}
+	must(t, a.Change(put("m", "v", "x")))
+	second, _ := a.Piece(1, 4)
+	fork := forged(t, x, a, []byte("fork"), func(h *entry.Header) {
+		*h = second.Header
+		h.Time++
+	})
+	is(t, a.Take(fork), api.ErrFork)
+	before = state(a)
+	q, _ = a.Alarm()
+	q.A.Tokens[0][0]++
+	q.B.Tokens[0][0]++
+	fork.Header.Tokens[0][0]++
+	if state(a) != before {
 		t.Error("shared")
 	}
 }

@@ -72,6 +72,7 @@ func TestFormed(t *testing.T) {
 		"time above":              func(h *Header) { h.Time = 1<<40 + 1 },
 		"control with an item":    func(h *Header) { h.Control, h.Tokens = true, nil },
 		"control with tokens":     func(h *Header) { h.Control, h.Item = true, api.Token{} },
+		"control with a token":    func(h *Header) { h.Control, h.Item, h.Tokens = true, api.Token{}, h.Tokens[:1] },
 		"nine tokens":             func(h *Header) { h.Tokens = many },
 		"tokens that fall":        func(h *Header) { h.Tokens = []api.Token{{2}, {1}} },
 		"a token twice":           func(h *Header) { h.Tokens = []api.Token{{2}, {2}} },

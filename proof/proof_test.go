@@ -45,6 +45,7 @@ func proofs(t *testing.T, x *box.Box) map[string]Proof {
 		"highest floor": {Kind: 3, Writer: 6, Floor: 1 << 20, Head: 1<<20 - 1},
 		"omit":          {Kind: 4, A: a, Wanted: []api.Token{{1}, {6}}},
 		"omit of all":   {Kind: 4, A: a},
+		"omit of eight": {Kind: 4, A: a, Wanted: []api.Token{{0}, {1}, {2}, {3}, {4}, {5}, {6}, {7}}},
 	}
 }
 
