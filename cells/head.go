@@ -1,6 +1,9 @@
 package cells
 
 import (
+	"bytes"
+	"slices"
+
 	"jalousie/api"
 )
 
@@ -34,6 +37,13 @@ func parse(sector []byte) (head, bool) {
 		return head{}, false
 	}
 	return head{serial: number(first[:8]), count: number(first[8:16]), note: [16]byte(first[16:])}, true
+}
+
+// blank is a sector that tells more bytes than any room has, and so no head, for a place where two halves stand that differ. It can be torn on its way there: then the halves differ, too, as its first byte isn't that of the second half, and its last one not that of the first.
+func blank(stands []byte) []byte {
+	b := bytes.Repeat([]byte{255}, half)
+	b[0], b[half-1] = ^stands[half], ^stands[half-1]
+	return slices.Concat(b, b)
 }
 
 // eight are a number's eight bytes, the greatest first.

@@ -299,3 +299,41 @@ func TestCrashes(t *testing.T) {
 		}
 	}
 }
+
+// draw is a number below n, the same ones each time.
+func draw(x *uint64, n int) int {
+	*x = *x*6364136223846793005 + 1442695040888963407
+	return int(*x>>33) % n
+}
+
+// Many calls that are cut off, one behind the other, with unlike fates: each is done or not.
+func TestManyCuts(t *testing.T) {
+	x := uint64(1)
+	sizes := []int{0, 1, 15, 31, 47, 111, 250}
+	for range 4000 {
+		d := disk.New(32)
+		s := open(t, d)
+		for i := range 20 {
+			was, generation := s.Records(), s.Generation()
+			size := sizes[draw(&x, len(sizes))]
+			l := [][]byte{bytes.Repeat([]byte{byte(i)}, size)}
+			next, then := append(slices.Clone(was), l...), generation
+			d.Fuse((size+65)/64 + draw(&x, 7) - 1)
+			var e api.Errno
+			if draw(&x, 6) == 0 {
+				next, then = l, generation+1
+				e = s.Compact(l)
+			} else {
+				e = s.Add(l...)
+			}
+			d.Crash([]byte{byte(draw(&x, 256)), byte(draw(&x, 256))})
+			s = open(t, d)
+			switch {
+			case s.Generation() == then && same(s.Records(), next) && (e == api.OK || e == api.ErrLost):
+			case s.Generation() == generation && same(s.Records(), was) && e != api.OK:
+			default:
+				t.Fatal(e, s.Generation(), generation, then, len(s.Records()), len(was))
+			}
+		}
+	}
+}
